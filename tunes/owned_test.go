@@ -1,0 +1,172 @@
+package tunes_test
+
+import (
+	"reflect"
+	"testing"
+
+	"tunes/api"
+	"tunes/tunes"
+)
+
+// roomy gives the same table with spare room behind each list, and something in all of it.
+func roomy(t api.Table) api.Table {
+	r := copied(t)
+	for i, row := range r.Next {
+		r.Next[i] = append(row, -7, -7, -7)[:len(row)]
+	}
+	r.Accept = append(r.Accept, true, false, true)[:len(t.Accept)]
+	r.Next = append(r.Next, []int{-7}, nil, []int{-7, -7})[:len(t.Next)]
+	return r
+}
+
+// spread gives all that stands in the lists of a table and in their spare room.
+func spread(t api.Table) api.Table {
+	whole := api.Table{Accept: t.Accept[:cap(t.Accept)], Next: append([][]int(nil), t.Next[:cap(t.Next)]...)}
+	for i, row := range whole.Next {
+		whole.Next[i] = row[:cap(row)]
+	}
+	return copied(whole)
+}
+
+// calls makes all calls, and gives the tables that come out.
+func calls(one, two api.Table) []api.Table {
+	tunes.Run(one, "abc")
+	tunes.First(one)
+	least, _ := tunes.Least(one)
+	not, _ := tunes.Not(one)
+	out := []api.Table{least, not}
+	for how := api.And; how <= api.Differ; how++ {
+		joined, _ := tunes.Join(one, two, how, api.MaxStates)
+		out = append(out, joined)
+	}
+	return out
+}
+
+func allCopied(tables []api.Table) []api.Table {
+	var out []api.Table
+	for _, t := range tables {
+		out = append(out, copied(t))
+	}
+	return out
+}
+
+func TestP2WhatIsHandedInIsNotWrittenInto(t *testing.T) {
+	one := roomy(counter(5, 0, true, false))
+	two := roomy(rows("0110", "33333312", "33333333", "12333333", "33333333"))
+	oneBefore := spread(one)
+	twoBefore := spread(two)
+	calls(one, two)
+	calls(one, one)
+	tunes.Join(one, two, 4, 0)
+	tunes.Join(one, two, api.Or, 1)
+	tunes.Run(one, "abi")
+	if !reflect.DeepEqual(spread(one), oneBefore) || !reflect.DeepEqual(spread(two), twoBefore) {
+		t.Errorf("P2: the tables have become %v and %v", spread(one), spread(two))
+	}
+}
+
+func TestP2WhatIsHandedInIsNotKept(t *testing.T) {
+	one := counter(5, 0, true, false)
+	two := rows("0110", "33333312", "33333333", "12333333", "33333333")
+	out := calls(one, two)
+	before := allCopied(out)
+	for _, table := range []api.Table{one, two} {
+		for i, row := range table.Next {
+			table.Accept[i] = !table.Accept[i]
+			for j := range row {
+				row[j] = 0
+			}
+			table.Next[i] = nil
+		}
+	}
+	if !reflect.DeepEqual(out, before) {
+		t.Errorf("P2: what came out has become %v, was %v", out, before)
+	}
+}
+
+func TestP2RowsThatAreOneListAreATable(t *testing.T) {
+	row := []int{1, 2, 2, 2, 2, 2, 2, 2}
+	shared := api.Table{Accept: []bool{false, true, false}, Next: [][]int{row, row, row}}
+	apart := copied(shared)
+	if got, want := calls(shared, shared), calls(apart, apart); !reflect.DeepEqual(got, want) {
+		t.Errorf("P2: %v, want %v", got, want)
+	}
+}
+
+// places tells of the memory of lists whether it stands in more than one of them.
+type places struct {
+	bools map[*bool]bool
+	rows  map[*[]int]bool
+	ints  map[*int]bool
+	twice bool
+}
+
+// take takes up the memory of all lists of a table, with their spare room.
+func (p *places) take(t api.Table) {
+	accept := t.Accept[:cap(t.Accept)]
+	for i := range accept {
+		p.twice = p.twice || p.bools[&accept[i]]
+		p.bools[&accept[i]] = true
+	}
+	next := t.Next[:cap(t.Next)]
+	for i := range next {
+		p.twice = p.twice || p.rows[&next[i]]
+		p.rows[&next[i]] = true
+		row := next[i][:cap(next[i])]
+		for j := range row {
+			p.twice = p.twice || p.ints[&row[j]]
+			p.ints[&row[j]] = true
+		}
+	}
+}
+
+// scrawl writes into all lists of a table and into their spare room.
+func scrawl(t api.Table) {
+	accept := t.Accept[:cap(t.Accept)]
+	for i := range accept {
+		accept[i] = !accept[i]
+	}
+	next := t.Next[:cap(t.Next)]
+	for i := range next {
+		row := next[i][:cap(next[i])]
+		for j := range row {
+			row[j] = -9
+		}
+		next[i] = nil
+	}
+}
+
+func TestP2WhatComesOutIsTheCallers(t *testing.T) {
+	for _, one := range []api.Table{every(), none(), odd(), counter(5, 0, true, false), counter(api.MaxStates, 2, true, false)} {
+		out := append(calls(one, every()), calls(one, every())...)
+		p := places{bools: map[*bool]bool{}, rows: map[*[]int]bool{}, ints: map[*int]bool{}}
+		p.take(one)
+		for _, table := range out {
+			p.take(table)
+		}
+		if p.twice {
+			t.Errorf("P2: lists share memory: %v", out)
+		}
+		before := allCopied(out)
+		for _, table := range out {
+			scrawl(table)
+		}
+		if again := append(calls(one, every()), calls(one, every())...); !reflect.DeepEqual(again, before) {
+			t.Errorf("P2: the answers have become %v, were %v", again, before)
+		}
+	}
+}
+
+func TestP2AnswersHangOnTheArgumentsAlone(t *testing.T) {
+	one := counter(5, 0, true, false)
+	two := rows("0110", "33333312", "33333333", "12333333", "33333333")
+	before := calls(one, two)
+	d := dice(2)
+	for range 50 {
+		calls(d.table(6, false), d.table(6, true))
+		calls(api.Table{}, d.table(40, true))
+		if again := calls(one, two); !reflect.DeepEqual(again, before) {
+			t.Fatalf("P2: the answers have become %v, were %v", again, before)
+		}
+	}
+}
