@@ -13,15 +13,8 @@ func Join(t api.Table, u api.Table, how int, budget int) (api.Table, api.Errno) 
 	if how < api.And || how > api.Differ {
 		return api.Table{}, api.ErrArg
 	}
-	if budget < 1 || budget > api.MaxStates {
-		return api.Table{}, api.ErrArg
-	}
 	both := pairUp(t, u, how)
-	least, fits := shrink(both, budget)
-	if !fits {
-		return api.Table{}, api.ErrBudget
-	}
-	return least, api.OK
+	return both.Least(budget)
 }
 
 // Least gives the least table that means the same as t (P5).
@@ -49,8 +42,8 @@ type pair struct {
 
 // pairUp gives the wide table that reads a text with both tables at once. It has only the pairs that
 // some text leads to, numbered as one comes to them.
-func pairUp(t api.Table, u api.Table, how int) wide {
-	var w wide
+func pairUp(t api.Table, u api.Table, how int) *Wide {
+	w := &Wide{}
 	// Of each pair one more than its number, so that 0 says: not met yet.
 	var met [api.MaxStates][api.MaxStates]int
 	met[0][0] = 1
@@ -68,8 +61,7 @@ func pairUp(t api.Table, u api.Table, how int) wide {
 			row[number] = met[one][two] - 1
 		}
 		accepts := joined(t.Accept[here.one], u.Accept[here.two], how)
-		w.accept = append(w.accept, accepts)
-		w.next = append(w.next, row)
+		w.Add(accepts, row)
 	}
 	return w
 }

@@ -2,13 +2,6 @@ package table
 
 import "tunes/api"
 
-// wide is a table that may have more states than MaxStates. Some text leads to each of its states, and
-// they are numbered in the order in which one comes to them, as those of a least table are.
-type wide struct {
-	accept []bool
-	next   [][api.Notes]int
-}
-
 // classes parts the states of a wide table: of tells of each state its class, heads of each class the
 // least of its states. Classes are numbered in the order of their heads.
 type classes struct {
@@ -17,7 +10,7 @@ type classes struct {
 }
 
 // shrink gives the least table that means the same as w, and whether it has at most so many states.
-func shrink(w wide, most int) (api.Table, bool) {
+func shrink(w *Wide, most int) (api.Table, bool) {
 	parted := classes{of: make([]int, len(w.accept)), heads: []int{0}}
 	// Each round but the last finds at least one class more, so there are at most as many rounds as
 	// states that may be, however wide w is.
@@ -33,7 +26,7 @@ func shrink(w wide, most int) (api.Table, bool) {
 
 // split parts the states anew: together are those that are alike as far as the classes so far tell.
 // It breaks off at more than so many classes, since no later round has fewer.
-func split(w wide, parted classes, most int) classes {
+func split(w *Wide, parted classes, most int) classes {
 	var finer classes
 	for state := 0; state < len(w.accept); state++ {
 		class := findClass(w, parted, finer.heads, state)
@@ -49,7 +42,7 @@ func split(w wide, parted classes, most int) classes {
 }
 
 // findClass gives the place of the head that is like the state; the number of heads, if none is.
-func findClass(w wide, parted classes, heads []int, state int) int {
+func findClass(w *Wide, parted classes, heads []int, state int) int {
 	for class, head := range heads {
 		if alike(w, parted, head, state) {
 			return class
@@ -58,7 +51,7 @@ func findClass(w wide, parted classes, heads []int, state int) int {
 	return len(heads)
 }
 
-func alike(w wide, parted classes, one int, two int) bool {
+func alike(w *Wide, parted classes, one int, two int) bool {
 	if w.accept[one] != w.accept[two] {
 		return false
 	}
@@ -72,7 +65,7 @@ func alike(w wide, parted classes, one int, two int) bool {
 
 // merge makes each class one state. The numbers of the classes are those of the least table's states:
 // w is numbered as one comes to its states, so one comes to a class first at its head.
-func merge(w wide, parted classes) api.Table {
+func merge(w *Wide, parted classes) api.Table {
 	states := len(parted.heads)
 	t := api.Table{Accept: make([]bool, states), Next: make([][]int, states)}
 	for class, head := range parted.heads {

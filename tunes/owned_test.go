@@ -39,6 +39,10 @@ func calls(one, two api.Table) []api.Table {
 		joined, _ := tunes.Join(one, two, how, api.MaxStates)
 		out = append(out, joined)
 	}
+	for _, pattern := range []string{"", ".*", "[^a-h]", "a(b|c)*", "[ab]*a[ab]{4}"} {
+		table, _, _ := tunes.Compile(pattern, api.MaxStates)
+		out = append(out, table)
+	}
 	return out
 }
 
@@ -165,6 +169,9 @@ func TestP2AnswersHangOnTheArgumentsAlone(t *testing.T) {
 	for range 50 {
 		calls(d.table(6, false), d.table(6, true))
 		calls(api.Table{}, d.table(40, true))
+		tunes.Compile("(a|b+){3}", 1+d.roll(40))
+		tunes.Compile("[a-b]{2,1}", 40)
+		tunes.Compile("((a", 40)
 		if again := calls(one, two); !reflect.DeepEqual(again, before) {
 			t.Fatalf("P2: the answers have become %v, were %v", again, before)
 		}

@@ -3,6 +3,7 @@ package tunes
 
 import (
 	"tunes/api"
+	"tunes/patterns"
 	"tunes/table"
 )
 
@@ -28,7 +29,7 @@ func Join(t api.Table, u api.Table, how int, budget int) (api.Table, api.Errno) 
 
 // Compile gives the least table of a pattern (P7, P8).
 func Compile(pattern string, budget int) (api.Table, api.Errno, int) {
-	return api.Table{}, api.OK, 0
+	return patterns.Compile(pattern, budget)
 }
 
 // Near gives the least table of the texts that are near a tune (P9).
