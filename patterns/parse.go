@@ -94,7 +94,8 @@ func (p *parser) atom(depth int) (int, bool) {
 	}
 	if p.take('.') {
 		var none [api.Notes]bool
-		return p.made.addSingle(others(none)), true
+		all := others(none)
+		return p.made.addSingle(all), true
 	}
 	number, good := p.note()
 	if !good {
