@@ -5,9 +5,13 @@ import "tunes/api"
 
 const names = "abcdefgh"
 
+func isNote(b byte) bool {
+	return b >= 'a' && b < 'a'+api.Notes
+}
+
 // Number gives the number of a note, and whether the byte is a note at all.
 func Number(b byte) (int, bool) {
-	if b < 'a' || b >= 'a'+api.Notes {
+	if !isNote(b) {
 		return 0, false
 	}
 	return int(b - 'a'), true
@@ -19,4 +23,18 @@ func Name(number int) string {
 		return ""
 	}
 	return names[number : number+1]
+}
+
+// IsTune tells whether the text is a tune.
+func IsTune(text string) bool {
+	// The length is looked at first, so that a very long text costs no more than a short one.
+	if len(text) > api.MaxTune {
+		return false
+	}
+	for i := 0; i < len(text); i++ {
+		if !isNote(text[i]) {
+			return false
+		}
+	}
+	return true
 }

@@ -1,6 +1,7 @@
 package note_test
 
 import (
+	"strings"
 	"testing"
 
 	"tunes/note"
@@ -26,6 +27,19 @@ func TestName(t *testing.T) {
 	for _, number := range []int{-1, 8, 1 << 62, -1 << 63} {
 		if name := note.Name(number); name != "" {
 			t.Errorf("Name(%d) = %q, want the empty text", number, name)
+		}
+	}
+}
+
+func TestIsTune(t *testing.T) {
+	for _, tune := range []string{"", "a", "h", "abcdefgh", "abcdefghabcd", "hhhhhhhhhhhh"} {
+		if !note.IsTune(tune) {
+			t.Errorf("IsTune(%q) is false", tune)
+		}
+	}
+	for _, text := range []string{"i", "`", "A", "a b", "aaaaaaaaaaai", "iaaaaaaaaaaa", "abcdefghabcde", "\x00", "\xff", "é", strings.Repeat("a", 1<<20)} {
+		if note.IsTune(text) {
+			t.Errorf("IsTune of %d bytes, %.20q, is true", len(text), text)
 		}
 	}
 }

@@ -43,6 +43,12 @@ func calls(one, two api.Table) []api.Table {
 		table, _, _ := tunes.Compile(pattern, api.MaxStates)
 		out = append(out, table)
 	}
+	for _, tune := range []string{"", "ab", "abc"} {
+		for distance := range api.MaxDistance + 1 {
+			table, _ := tunes.Near(tune, distance, api.MaxStates)
+			out = append(out, table)
+		}
+	}
 	return out
 }
 
@@ -172,6 +178,8 @@ func TestP2AnswersHangOnTheArgumentsAlone(t *testing.T) {
 		tunes.Compile("(a|b+){3}", 1+d.roll(40))
 		tunes.Compile("[a-b]{2,1}", 40)
 		tunes.Compile("((a", 40)
+		tunes.Near("hgfabbah", d.roll(3), 1+d.roll(40))
+		tunes.Near("abx", 1, 40)
 		if again := calls(one, two); !reflect.DeepEqual(again, before) {
 			t.Fatalf("P2: the answers have become %v, were %v", again, before)
 		}

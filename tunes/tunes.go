@@ -3,6 +3,7 @@ package tunes
 
 import (
 	"tunes/api"
+	"tunes/ear"
 	"tunes/patterns"
 	"tunes/table"
 )
@@ -34,7 +35,7 @@ func Compile(pattern string, budget int) (api.Table, api.Errno, int) {
 
 // Near gives the least table of the texts that are near a tune (P9).
 func Near(tune string, distance int, budget int) (api.Table, api.Errno) {
-	return api.Table{}, api.OK
+	return ear.Near(tune, distance, budget)
 }
 
 // New gives an empty book (P10).
