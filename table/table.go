@@ -32,6 +32,22 @@ func validRow(row []int, states int) bool {
 	return true
 }
 
+// Copy gives the same lists in memory of their own, so that one may keep what another writes into.
+func Copy(t api.Table) api.Table {
+	var c api.Table
+	for _, accepts := range t.Accept {
+		c.Accept = append(c.Accept, accepts)
+	}
+	for _, row := range t.Next {
+		var own []int
+		for _, state := range row {
+			own = append(own, state)
+		}
+		c.Next = append(c.Next, own)
+	}
+	return c
+}
+
 // Run tells whether t accepts the text (P3).
 func Run(t api.Table, text string) (bool, api.Errno) {
 	if !Valid(t) {

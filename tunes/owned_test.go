@@ -2,6 +2,7 @@ package tunes_test
 
 import (
 	"reflect"
+	"slices"
 	"testing"
 
 	"tunes/api"
@@ -70,6 +71,14 @@ func TestP2WhatIsHandedInIsNotWrittenInto(t *testing.T) {
 	tunes.Join(one, two, 4, 0)
 	tunes.Join(one, two, api.Or, 1)
 	tunes.Run(one, "abi")
+	b := book(t, "", "a", "aa", "abc", "h")
+	for number := range api.MaxCursors {
+		checkOpen(t, b, one, number, api.OK)
+		b.Next(number, 1)
+	}
+	b.Open(two)
+	b.Next(0, 0)
+	b.Close(0)
 	if !reflect.DeepEqual(spread(one), oneBefore) || !reflect.DeepEqual(spread(two), twoBefore) {
 		t.Errorf("P2: the tables have become %v and %v", spread(one), spread(two))
 	}
@@ -171,6 +180,7 @@ func TestP2AnswersHangOnTheArgumentsAlone(t *testing.T) {
 	one := counter(5, 0, true, false)
 	two := rows("0110", "33333312", "33333333", "12333333", "33333333")
 	before := calls(one, two)
+	b := book(t, "a", "ab", "h")
 	d := dice(2)
 	for range 50 {
 		calls(d.table(6, false), d.table(6, true))
@@ -180,8 +190,94 @@ func TestP2AnswersHangOnTheArgumentsAlone(t *testing.T) {
 		tunes.Compile("((a", 40)
 		tunes.Near("hgfabbah", d.roll(3), 1+d.roll(40))
 		tunes.Near("abx", 1, 40)
+		checkOpen(t, b, one, 0, api.OK)
+		b.Next(0, 2)
+		checkClose(t, b, 0, api.OK)
 		if again := calls(one, two); !reflect.DeepEqual(again, before) {
 			t.Fatalf("P2: the answers have become %v, were %v", again, before)
 		}
 	}
+}
+
+func TestP2ACursorKeepsTheTableAsItWas(t *testing.T) {
+	d := dice(4)
+	list := pairs()[:api.MaxBook]
+	for range 20 {
+		table := roomy(d.table(1+d.roll(5), false))
+		var want []string
+		for _, tune := range list {
+			if reads(table, tune) {
+				want = append(want, tune)
+			}
+		}
+		one, two := book(t, list...), book(t, list...)
+		checkOpen(t, one, table, 0, api.OK)
+		checkOpen(t, two, table, 0, api.OK)
+		half := min(len(want), 5)
+		if half > 0 {
+			checkNext(t, one, 0, half, half == len(want), want[:half]...)
+		}
+		scrawl(table)
+		for at := half; at < len(want); at++ {
+			checkNext(t, one, 0, 1, at+1 == len(want), want[at])
+		}
+		for at := 0; at < len(want); at++ {
+			checkNext(t, two, 0, 1, at+1 == len(want), want[at])
+		}
+		checkNext(t, one, 0, 1, true)
+		checkNext(t, two, 0, 1, true)
+	}
+}
+
+func TestP2ListsOfABookAreTheCallers(t *testing.T) {
+	list := pairs()[:api.MaxBook]
+	b := book(t, list...)
+	knots := b.Knots()
+	want := slices.Clone(knots)
+	checkOpen(t, b, every(), 0, api.OK)
+	met := map[*string]bool{}
+	scrawlOver := func(out []string) {
+		out = out[:cap(out)]
+		for i := range out {
+			if met[&out[i]] {
+				t.Fatalf("P2: lists share memory: %q", out)
+			}
+			met[&out[i]] = true
+			out[i] = "x"
+		}
+	}
+	scrawlOver(knots)
+	for at := 0; at < len(list); at += 3 {
+		out, _, _ := b.Next(0, 3)
+		if !slices.Equal(out, list[at:at+3]) {
+			t.Fatalf("P13: Next(0, 3) = %q, want %q", out, list[at:at+3])
+		}
+		scrawlOver(out)
+		scrawlOver(b.Knots())
+		checkKnots(t, b, want...)
+	}
+	for _, tune := range list {
+		checkHas(t, b, tune, true, api.OK)
+	}
+	checkCount(t, b, len(list))
+	checkOpen(t, b, every(), 1, api.OK)
+	checkNext(t, b, 1, api.MaxLimit, false, list[:api.MaxLimit]...)
+}
+
+func TestP2BooksDoNotChangeOneAnother(t *testing.T) {
+	one, two := book(t, "a", "b"), book(t, "c")
+	checkOpen(t, one, every(), 0, api.OK)
+	checkNoCursor(t, two, 0)
+	checkOpen(t, two, compiled(t, "[cd]"), 0, api.OK)
+	checkNext(t, one, 0, 1, false, "a")
+	checkNext(t, two, 0, 1, true, "c")
+	checkAdd(t, two, "d", true, api.OK)
+	checkDrop(t, two, "a", false, api.OK)
+	checkHas(t, one, "a", true, api.OK)
+	checkHas(t, one, "d", false, api.OK)
+	checkKnots(t, one, "", "a", "b")
+	checkKnots(t, two, "", "c", "d")
+	checkClose(t, one, 0, api.OK)
+	checkNext(t, two, 0, 1, true, "d")
+	checkCount(t, book(t), 0)
 }

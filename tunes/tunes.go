@@ -3,13 +3,16 @@ package tunes
 
 import (
 	"tunes/api"
+	"tunes/book"
 	"tunes/ear"
 	"tunes/patterns"
 	"tunes/table"
 )
 
 // Book is a book of tunes, with its cursors.
-type Book struct{}
+type Book struct {
+	inside book.Book
+}
 
 // Run tells whether a table accepts a text (P3).
 func Run(t api.Table, text string) (bool, api.Errno) { return table.Run(t, text) }
@@ -39,28 +42,30 @@ func Near(tune string, distance int, budget int) (api.Table, api.Errno) {
 }
 
 // New gives an empty book (P10).
-func New() *Book { return nil }
+func New() *Book { return &Book{} }
 
 // Add puts a tune in (P10).
-func (b *Book) Add(tune string) (bool, api.Errno) { return false, api.OK }
+func (b *Book) Add(tune string) (bool, api.Errno) { return b.inside.Add(tune) }
 
 // Drop takes a tune away (P10).
-func (b *Book) Drop(tune string) (bool, api.Errno) { return false, api.OK }
+func (b *Book) Drop(tune string) (bool, api.Errno) { return b.inside.Drop(tune) }
 
 // Has tells whether a tune is there (P10).
-func (b *Book) Has(tune string) (bool, api.Errno) { return false, api.OK }
+func (b *Book) Has(tune string) (bool, api.Errno) { return b.inside.Has(tune) }
 
 // Count tells how many tunes there are (P10).
-func (b *Book) Count() int { return 0 }
+func (b *Book) Count() int { return b.inside.Count() }
 
 // Knots tells the knots (P11).
-func (b *Book) Knots() []string { return nil }
+func (b *Book) Knots() []string { return b.inside.Knots() }
 
 // Open opens a cursor (P12).
-func (b *Book) Open(t api.Table) (int, api.Errno) { return 0, api.OK }
+func (b *Book) Open(t api.Table) (int, api.Errno) { return b.inside.Open(t) }
 
 // Next gives the next tunes of a cursor (P13).
-func (b *Book) Next(cursor int, limit int) ([]string, bool, api.Errno) { return nil, false, api.OK }
+func (b *Book) Next(cursor int, limit int) ([]string, bool, api.Errno) {
+	return b.inside.Next(cursor, limit)
+}
 
 // Close closes a cursor (P12).
-func (b *Book) Close(cursor int) api.Errno { return api.OK }
+func (b *Book) Close(cursor int) api.Errno { return b.inside.Close(cursor) }
